@@ -422,30 +422,69 @@ func TestSumsHangOnNothingElse(t *testing.T) {
 	}
 }
 
-// TestWhicheverCallIsFirst unmakes the table ahead of each call: whichever one is the first must make it.
-func TestWhicheverCallIsFirst(t *testing.T) {
+// leaveVariables sees to it that the next test finds the variables as if no call had come yet.
+func leaveVariables(t *testing.T) {
+	t.Cleanup(func() { once, table = sync.Once{}, [256]uint32{} })
+}
+
+// TestNoAnswerHangsOnTheVariables puts right and wrong tables, made and yet to be made, ahead of each call.
+func TestNoAnswerHangsOnTheVariables(t *testing.T) {
+	leaveVariables(t)
+	var zeros, ones, nearly [256]uint32
+	for i := range ones {
+		ones[i] = math.MaxUint32
+	}
+	right := folded(half)
+	nearly = right
+	nearly['1'^0xff]++ // what the text below asks for first, wrong alone
 	w := markOf(7, 300, []uint64{1, 2})
-	for i, call := range []func() bool{
-		func() bool { return Of([]uint64{0x3837363534333231}) == bitwise([]byte("12345678")) },
-		func() bool { return Bytes([]byte("123456789")) == 0xe3069283 },
-		func() bool { m, ok := Mark(7, 300, []uint64{1, 2}); return ok && m == w },
-		func() bool { return Fits(w, []uint64{1, 2}) },
-	} {
-		once, table = sync.Once{}, [256]uint32{}
-		if !call() {
-			t.Error("the call", i, "as the first one")
+	for i, stands := range [][256]uint32{zeros, ones, right, nearly} {
+		for _, made := range []bool{false, true} {
+			for j, call := range []func() bool{
+				func() bool { return Of([]uint64{0x3837363534333231}) == bitwise([]byte("12345678")) },
+				func() bool { return Of(nil) == 0 },
+				func() bool { return Bytes([]byte("123456789")) == 0xe3069283 },
+				func() bool { return Bytes(nil) == 0 },
+				func() bool { m, ok := Mark(7, 300, []uint64{1, 2}); return ok && m == w },
+				func() bool { m, ok := Mark(256, 300, []uint64{1, 2}); return !ok && m == 0 },
+				func() bool { kind, n, sum := Open(w); return kind == 7 && n == 300 && sum == uint32(w) },
+				func() bool { return Fits(w, []uint64{1, 2}) },
+				func() bool { return !Fits(w^1, []uint64{1, 2}) },
+			} {
+				once, table = sync.Once{}, stands
+				if made {
+					once.Do(func() {})
+				}
+				if !call() || !call() {
+					t.Errorf("the call %d, where the table %d stands, made: %t", j, i, made)
+				}
+			}
 		}
 	}
 }
 
 func TestTheTableIsMadeOnce(t *testing.T) {
+	leaveVariables(t)
 	once, table = sync.Once{}, [256]uint32{}
-	Of(nil)
-	made := table
+	Bytes(nil)
+	if made := table; made != folded(half) {
+		t.Error("the table isn't made by the first call that takes it")
+	}
 	table[1]++
-	Of([]uint64{1})
-	if changed := table; changed == made {
+	changed := table
+	if x := Bytes([]byte("123456789")); x != 0xe3069283 {
+		t.Errorf("%08x", x)
+	}
+	if stands := table; stands != changed {
 		t.Error("the table was made a second time")
 	}
-	table = made
+}
+
+func TestTheTableHasWhatEachByteMakesOfASum(t *testing.T) {
+	for i, x := range folded(half) {
+		// The sum of one byte, its bits turned back, is the number that its low bits choose, xored with the upper bits of the first sum.
+		if want := ^bitwise([]byte{byte(i) ^ 0xff}) ^ 0x00ffffff; x != want {
+			t.Errorf("%d: %08x, not %08x", i, x, want)
+		}
+	}
 }
